@@ -1,0 +1,94 @@
+"""Values of every kind that point 3 of the document names, and polys to reckon with."""
+
+import random
+
+from rowsfilled.errors import BadText, FillError, TooMany
+
+PRIMES = (2, 3, 5, 7)
+ONE = ((0, 0, 1),)
+X = ((1, 0, 1),)
+Y = ((0, 1, 1),)
+
+
+def nested(kind, levels):
+    """A value of so many levels."""
+    thing = 1
+    for _ in range(levels):
+        thing = {"list": [thing], "tuple": (thing,), "dict": {1: thing}}[kind]
+    return thing
+
+
+def nested_triple(levels):
+    thing = (0, 0, 1)
+    for _ in range(levels):
+        thing = (thing, thing, thing) if levels < 6 else (0, thing, 1)
+    return thing
+
+
+WIDE = 10 ** 40
+
+# None of these is a prime, a poly, a power, a letter, a turn or a list of polys.
+STRANGE = [
+    None, True, False, -1, 1000, 123456789, 1234567890, WIDE, -WIDE, "", "2", "xy", "swap", "slide",
+    [True], [None], (True,), (None,), ("x",), ["x"], {"x": 1}, {1: True}, {True: ()}, {None: None},
+    (1, 2), [[]], (({},),), nested("list", 80), nested("tuple", 80), nested("dict", 80),
+    nested_triple(80), nested_triple(5), FillError("2"), TooMany(3), BadText([2]),
+]
+
+NO_PRIMES = STRANGE + [0, 1, 4, 6, 8, 9, 11, 49, -2, -7, (), [], {}, [2], (2,), {2: 2}, "7", b"2"]
+
+NO_TERMS = [
+    (0, 0, True), (True, 0, 1), (0, True, 1), (False, 0, 1), (0, False, 1), (0, 0, False), (0, 0, 0),
+    (0, 0, -1), (0, 0, None), (None, 0, 1), (0, None, 1), ("0", 0, 1), (0, 0, "1"), (0, 0, [1]), (0, 0, (1,)),
+    (-1, 0, 1), (0, -1, 1), (1000, 0, 1), (0, 1000, 1), (WIDE, 0, 1), (0, WIDE, 1), (0, 0, WIDE), (0, 0, -WIDE),
+    (1234567890, 0, 1), (0, 0), (0, 0, 1, 1), (), [0, 0, 1], {0: 1, 1: 1, 2: 1}, "001", 1, True, None,
+    nested("tuple", 78), nested("list", 78), nested("dict", 78),
+    (nested("tuple", 77), nested("list", 77), nested("dict", 77)),
+]
+
+
+def no_polys(prime):
+    """Values that are no polys of this prime."""
+    found = list(STRANGE) + [0, 1, {}, [], [()], [(0, 0, 1)], (0, 0, 1), ([0, 0, 1],), (((0, 0, 1),),), {(0, 0): 1}]
+    found += [(term,) for term in NO_TERMS]
+    found += [((0, 0, 1), term) for term in NO_TERMS]
+    found += [((0, 0, prime),), ((0, 0, prime + 1),), ((1, 1, 1), (2, 2, prime))]
+    found += [
+        ((1, 0, 1), (0, 0, 1)), ((0, 1, 1), (0, 0, 1)), ((1, 0, 1), (0, 5, 1)), ((0, 0, 1), (2, 0, 1), (1, 0, 1)),
+        ((0, 0, 1), (0, 0, 1)), ((2, 3, 1), (2, 3, 1)), ((0, 0, 1), (1, 0, 1), (1, 0, prime - 1)),
+    ]
+    if prime > 2:
+        found += [((0, 0, 1), (0, 0, 2)), ((0, 0, 2), (0, 0, 1))]
+    return found
+
+
+def no_x_polys(prime):
+    """Values that are no polys of this prime without y, some of them polys."""
+    return no_polys(prime) + [Y, ((0, 0, 1), (0, 1, 1)), ((0, 0, 1), (3, 999, prime - 1)), ((1, 1, 1),)]
+
+
+def some_polys(prime, many, most_power, most_terms=6, letters=2, seed=1):
+    """So many polys, the same at each call."""
+    source = random.Random(f"{prime} {most_power} {most_terms} {letters} {seed}")
+    found = [(), ONE, ((0, 0, prime - 1),), X]
+    while len(found) < many:
+        table = {}
+        for _ in range(source.randint(1, most_terms)):
+            powers = (source.randint(0, most_power), source.randint(0, most_power) if letters == 2 else 0)
+            table[powers] = source.randint(1, prime - 1)
+        found.append(tuple((i, j, c) for (i, j), c in sorted(table.items())))
+    return found
+
+
+def all_x_polys(prime, degree, monic=True):
+    """All polys in x of exactly this degree, ascending in no told way."""
+    found = [[]]
+    for _ in range(degree):
+        found = [row + [c] for row in found for c in range(prime)]
+    tops = [1] if monic else list(range(1, prime))
+    return [x_poly(row + [top]) for row in found for top in tops]
+
+
+def x_poly(numbers):
+    """The poly with numbers[k] at x to the k."""
+    return tuple((k, 0, c) for k, c in enumerate(numbers) if c)
