@@ -3,6 +3,8 @@
 from rowsfilled.errors import BadPoly, BadPrime, TooMany
 
 MOST_POWER = 999
+MOST_DEGREE = 12
+MOST_SMALL = 3
 
 
 def is_number(thing):

@@ -1,12 +1,10 @@
 """Polys in x alone: division, common factors, prime polys."""
 
-from rowsfilled.checks import check_prime, check_x_poly
+from rowsfilled.checks import MOST_DEGREE, check_prime, check_x_poly
 from rowsfilled.errors import BadPoly, TooMany
 from rowsfilled.splitting import split_list
 from rowsfilled.terms import high_of
 from rowsfilled.xlists import inverse_number, list_common_told, list_divided, list_of, list_scaled, x_poly_of
-
-MOST_DEGREE = 12
 
 
 def divided(prime, one, other):

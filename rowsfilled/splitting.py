@@ -55,11 +55,11 @@ def pieces_by(prime, numbers, mix):
     return found
 
 
-def prime_powers(prime, numbers):
-    """Powers of unlike prime lists whose product is the list.
+def prime_parts(prime, numbers):
+    """The prime lists whose product the list is, each of them once.
 
-    A mix that its own power of prime leaves by the list is like one number modulo each of these powers,
-    and for any two of them some mix of the basis is like two different numbers.
+    A mix that its own power of prime leaves by the list is like one number modulo each of them, and for any two of
+    them some mix of the basis is like two different numbers.
     """
     parts = [numbers]
     for mix in null_mixes(prime, moves_of_powers(prime, numbers)):
@@ -67,17 +67,27 @@ def prime_powers(prime, numbers):
     return parts
 
 
-def root_told(prime, numbers):
-    """The pair (root, how often) for a power of one prime list."""
-    slope = list_slope(prime, numbers)
-    if not slope:
-        # Only powers of x that prime divides stand here: the list is another one to the power prime.
-        root, often = root_told(prime, numbers[::prime])
-        return root, often * prime
-    root = list_divided(prime, numbers, list_common(prime, numbers, slope))[0]
-    return root, (len(numbers) - 1) // (len(root) - 1)
+def simple_parts(prime, numbers):
+    """Pairs (part, how often): the list is the product of the parts, each so many times, no prime twice in them."""
+    found = []
+    rest = list_common(prime, numbers, list_slope(prime, numbers))
+    left = list_divided(prime, numbers, rest)[0]
+    often = 1
+    while len(left) > 1:
+        again = list_common(prime, left, rest)
+        part = list_divided(prime, left, again)[0]
+        if len(part) > 1:
+            found.append((part, often))
+        left, rest, often = again, list_divided(prime, rest, again)[0], often + 1
+    if len(rest) > 1:
+        # Only powers of x that prime divides stand in the rest: it is another list to the power prime.
+        found.extend([(part, prime * times) for part, times in simple_parts(prime, rest[::prime])])
+    return found
 
 
 def split_list(prime, numbers):
     """The pairs (root, how often) of all unlike prime lists that divide the list."""
-    return [root_told(prime, held) for held in prime_powers(prime, numbers)]
+    found = []
+    for part, often in simple_parts(prime, numbers):
+        found.extend([(root, often) for root in prime_parts(prime, part)])
+    return found

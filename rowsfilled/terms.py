@@ -55,6 +55,11 @@ def lead_of(poly):
     return max(poly, key=lambda term: (term[0] + term[1], term[0]))
 
 
+def exchanged(poly):
+    """The poly with x and y exchanged."""
+    return tuple(sorted([(j, i, c) for i, j, c in poly]))
+
+
 def spread(prime, poly):
     """The poly to the power prime: modulo prime, sums and numbers keep their form when raised to it."""
     return tuple([(prime * i, prime * j, c) for i, j, c in poly])

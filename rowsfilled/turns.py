@@ -1,10 +1,9 @@
 """Turns of the two letters, by which some poly of a list always becomes plain in y."""
 
-from rowsfilled.checks import check_poly, check_prime, is_number_within, is_poly_of, within_powers
+from rowsfilled.checks import MOST_SMALL, check_poly, check_prime, is_number_within, is_poly_of, within_powers
 from rowsfilled.errors import BadPolys, BadTurn, TooMany
-from rowsfilled.terms import high_of, substituted
+from rowsfilled.terms import exchanged, high_of, substituted
 
-MOST_SMALL = 3
 TRIED = (None, ("swap",), ("slide", 1), ("slide", 2), ("slide", 3), ("slide", 4))
 
 
@@ -27,7 +26,7 @@ def turned_by(prime, poly, turn):
     if turn is None:
         return poly
     if turn == ("swap",):
-        return tuple(sorted([(j, i, c) for i, j, c in poly]))
+        return exchanged(poly)
     word, power = turn
     shift = 1 if word == "slide" else prime - 1
     return substituted(prime, poly, ((0, power, shift), (1, 0, 1)), ((0, 1, 1),))

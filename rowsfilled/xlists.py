@@ -40,17 +40,44 @@ def list_less(prime, one, other):
     return trimmed(numbers)
 
 
+def list_plus(prime, one, other):
+    if len(one) < len(other):
+        one, other = other, one
+    numbers = list(one)
+    for k, c in enumerate(other):
+        numbers[k] = (numbers[k] + c) % prime
+    return trimmed(numbers)
+
+
 def list_times(prime, one, other):
-    numbers = [0] * (len(one) + len(other))
+    if not one or not other:
+        return []
+    if len(one) == 1:
+        return list_scaled(prime, one[0], other) if one[0] != 1 else other
+    numbers = [0] * (len(one) + len(other) - 1)
     for k, c in enumerate(one):
-        for m, d in enumerate(other):
-            numbers[k + m] += c * d
-    return trimmed([number % prime for number in numbers])
+        # Polys of high powers often have few terms.
+        if c != 0:
+            for m, d in enumerate(other):
+                numbers[k + m] += c * d
+    return [number % prime for number in numbers]
 
 
 def list_scaled(prime, number, numbers):
     """The list times a number that is not 0."""
     return [number * c % prime for c in numbers]
+
+
+def list_power(prime, numbers, power):
+    found = [1]
+    for _ in range(power):
+        found = list_times(prime, found, numbers)
+    return found
+
+
+def list_monic(prime, numbers):
+    """The list times a number, the last one being 1; it is not empty."""
+    return list_scaled(prime, inverse_number(prime, numbers[-1]), numbers)
 
 
 def list_divided(prime, one, other):
@@ -71,9 +98,16 @@ def list_common(prime, one, other):
     """The monic greatest common factor, [] for two empty lists."""
     while other:
         one, other = other, list_divided(prime, one, other)[1]
-    if not one:
-        return []
-    return list_scaled(prime, inverse_number(prime, one[-1]), one)
+    return list_monic(prime, one) if one else []
+
+
+def list_common_of(prime, several):
+    """The monic greatest common factor of all lists, [] if all are empty."""
+    found = []
+    for numbers in several:
+        if found != [1]:
+            found = list_common(prime, found, numbers)
+    return found
 
 
 def list_common_told(prime, one, other):

@@ -92,3 +92,99 @@ def all_x_polys(prime, degree, monic=True):
 def x_poly(numbers):
     """The poly with numbers[k] at x to the k."""
     return tuple((k, 0, c) for k, c in enumerate(numbers) if c)
+
+
+def prime_polys(prime, degree, many=2):
+    """The first so many prime polys of this degree, in the sequence of all_x_polys."""
+    from rowsfilled.onevar import is_prime_poly
+    found = []
+    numbers = 0
+    while len(found) < many and numbers < prime ** degree:
+        poly = x_poly([numbers // prime ** k % prime for k in range(degree)] + [1])
+        if is_prime_poly(prime, poly):
+            found.append(poly)
+        numbers += 1
+    return found
+
+
+def no_moduli(prime):
+    """Values that are no prime polys of degree 1 to 12, polys among them."""
+    found = no_x_polys(prime) + [(), ONE, ((0, 0, prime - 1),), ((2, 0, 1),), ((0, 0, 1), (999, 0, 1)), ((12, 0, 1),)]
+    found += [((1, 0, 1), (2, 0, 1)), ((0, 0, prime - 1), (2, 0, 1)), ((1, 0, 1), (13, 0, 1)), ((1, 0, 1), (1, 1, 1))]
+    # x to the 13 with x and 1, or twice them, is a prime poly for some of the primes; all are too high.
+    found += [((0, 0, 1), (1, 0, 1), (3, 0, 1), (4, 0, 1), (13, 0, 1)), ((0, 0, 1), (1, 0, 2 % prime or 1), (13, 0, 1))]
+    for c in range(2, prime):
+        found += [((1, 0, c),), ((0, 0, 1), (1, 0, c))]
+    return found
+
+
+def no_rows(prime, sizes=(2, 3, 4)):
+    """Values that are no tuples of so many polys."""
+    found = list(STRANGE) + [(), [], {}, 0, 1]
+    for size in range(7):
+        row = (ONE, X, Y, (), ONE, X)[:size]
+        found += [list(row), dict(enumerate(row))]
+        if size not in sizes:
+            found.append(row)
+    for size in sizes:
+        deep = [nested(kind, 79) for kind in ("tuple", "list", "dict")]
+        for bad in no_polys(prime)[::7] + [None, True, 1, []] + deep:
+            for at in range(size):
+                found.append((X,) * at + (bad,) + (ONE,) * (size - at - 1))
+    return found
+
+
+def drawn_poly(source, prime, most_power, most_terms):
+    table = {}
+    for _ in range(source.randint(0, most_terms)):
+        table[source.randint(0, most_power), source.randint(0, most_power)] = source.randint(1, prime - 1)
+    return tuple((i, j, c) for (i, j), c in sorted(table.items()))
+
+
+def drawn_row(source, prime, size, most_power=3, most_terms=5):
+    return tuple(drawn_poly(source, prime, most_power, most_terms) for _ in range(size))
+
+
+def no_tables(prime, sizes=(2, 3, 4)):
+    """Values that are no tables of so many rows."""
+    found = list(STRANGE) + [(), [], {}, ((),), ((), ()), ((ONE,),), (ONE, X), (X, Y, ONE), ONE]
+    for many in range(1, 6):
+        for size in range(6):
+            row = (ONE, X, Y, (), ONE)[:size]
+            table = (row,) * many
+            found += [list(table), tuple([list(row)] * many), dict(enumerate(table))]
+            if many != size or many not in sizes:
+                found.append(table)
+    for size in sizes:
+        row = (X, ONE, (), Y)[:size]
+        no_rows_here = [row[:-1], row + (X,), list(row), (), None, True, "x", dict(enumerate(row)), nested("tuple", 79)]
+        for bad_row in no_rows_here:
+            for at in range(size):
+                found.append((row,) * at + (bad_row,) + (row,) * (size - at - 1))
+        deep = [nested(kind, 78) for kind in ("tuple", "list", "dict")]
+        for bad in no_polys(prime)[::11] + [True, [], None] + deep:
+            found.append((row,) * (size - 1) + (row[:-1] + (bad,),))
+            found.append(((bad,) + row[1:],) + (row,) * (size - 1))
+    return found
+
+
+def no_grids(prime):
+    """Values that are no grids."""
+    found = list(STRANGE) + [(), [], {}, ((),), ((), ()), ((ONE,),), ((ONE,), (ONE,)), (ONE, X), (X, Y, ONE), ONE]
+    for many in range(1, 6):
+        for size in range(6):
+            row = (ONE, X, Y, (), ONE)[:size]
+            grid = (row,) * many
+            found += [list(grid), tuple([list(row)] * many), dict(enumerate(grid))]
+            if size not in (2, 3, 4) or many > size:
+                found.append(grid)
+            elif many > 1:
+                found += [grid[:-1] + (row[:-1],), (row + (X,),) + grid[1:], grid[:-1] + (None,), grid[:-1] + (True,)]
+    row = (X, ONE, ())
+    for bad in no_polys(prime)[::5] + [True, [], None, nested("tuple", 78), nested("list", 78), nested("dict", 78)]:
+        found += [((bad,) + row,), (row, row[:-1] + (bad,)), (row, row, (X, bad, Y)), ((bad, ONE), (ONE, X))]
+    return found
+
+
+def drawn_grid(source, prime, many, size, most_power=2, most_terms=3):
+    return tuple(drawn_row(source, prime, size, most_power, most_terms) for _ in range(many))

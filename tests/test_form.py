@@ -27,6 +27,31 @@ INTERFACE = {
     "turns": {
         "turned": "prime poly turn", "turned_about": "turn", "is_plain": "prime poly", "made_plain": "prime polys",
     },
+    "resultants": {"resultant": "prime one other"},
+    "fields": {
+        "rest_at": "prime modulus poly", "times_at": "prime modulus one other", "inverse_at": "prime modulus poly",
+        "common_at": "prime modulus one other", "roots_at": "prime modulus poly",
+    },
+    "commons": {"common_factor": "prime one other", "quotient": "prime one other"},
+    "ones": {"are_ones": "prime row thing", "ones": "prime row"},
+    "zeros": {
+        "is_spot": "prime row thing", "common_spot": "prime row", "zeros_at": "prime modulus row",
+        "rest_size": "prime row",
+    },
+    "minors": {
+        "grid_by": "prime grid table", "adjoint": "prime table", "minors": "prime grid", "multiples": "prime grid",
+        "dependent": "prime grid", "is_dependent": "prime grid thing",
+    },
+    "moving": {
+        "unit": "prime many", "table_product": "prime table other", "row_by": "prime row table",
+        "determinant": "prime table", "inverse": "prime table", "placed": "prime poly place",
+        "placed_row": "prime row place", "is_telling": "prime one other thing",
+        "moved_two": "prime one other telling place goal", "mixed_entry": "prime row mixing",
+        "moved_row": "prime row mixing telling place goal",
+    },
+    "coming": {
+        "mixing_for": "prime row modulus", "is_coming": "prime row thing", "coming": "prime row",
+    },
 }
 
 BUILTINS = (
