@@ -1,8 +1,9 @@
 """Common factors and quotients of polys in both letters, unchecked."""
 
+from rowsfilled.images import y_common
 from rowsfilled.terms import exchanged, high_of
 from rowsfilled.xlists import inverse_number, list_common
-from rowsfilled.ylists import content, poly_of_y, primitive, y_common, y_list_of, y_quotient, y_scaled
+from rowsfilled.ylists import content, poly_of_y, primitive, y_list_of, y_quotient, y_scaled
 
 
 def last_of(poly):

@@ -1,6 +1,6 @@
 """The minors of grids: their multiples that come to 1, or a spot at which the rows hang together."""
 
-from rowsfilled.checks import check_prime
+from rowsfilled.checks import check_prime, within_powers
 from rowsfilled.growth import multiples_of
 from rowsfilled.hanging import hung
 from rowsfilled.shapes import check_grid, check_table, check_table_of, is_row_of
@@ -63,7 +63,8 @@ def dependent(prime, grid):
     q, h = found
     rows = [[rest_by_both(prime, q, h, y_list_of(poly)) for poly in row] for row in grid]
     factor, numbers = hung(prime, q, h, rows)
-    return (None, x_poly_of(q), poly_of_y(factor)), tuple([poly_of_y(number) for number in numbers])
+    spot = None, within_powers(x_poly_of(q)), within_powers(poly_of_y(factor))
+    return spot, row_within([poly_of_y(number) for number in numbers])
 
 
 def are_numbers_at(prime, thing, size, spot):

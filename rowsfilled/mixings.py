@@ -3,8 +3,9 @@
 The field is told by its modulus, a prime list in x; [] stands for the field of all quotients.
 """
 
+from rowsfilled.images import y_common
 from rowsfilled.moduli import rest_common, rest_divided, y_rest
-from rowsfilled.ylists import primitive, y_common, y_plus, y_quotient, y_times
+from rowsfilled.ylists import primitive, y_plus, y_quotient, y_times
 
 
 def over_field(prime, modulus, rows):

@@ -2,7 +2,7 @@
 
 from rowsfilled.checks import MOST_DEGREE, is_x_poly_of
 from rowsfilled.errors import BadModulus
-from rowsfilled.splitting import split_list
+from rowsfilled.splitting import is_prime_list
 from rowsfilled.terms import high_of
 from rowsfilled.xlists import list_common_told, list_divided, list_of, list_plus, list_times, trimmed
 from rowsfilled.ylists import y_less, y_scaled, y_times, y_trimmed
@@ -12,8 +12,7 @@ def is_modulus_of(prime, thing):
     """Whether any value is a prime poly of degree 1 to 12."""
     if not is_x_poly_of(prime, thing) or not 1 <= high_of(thing, 0) <= MOST_DEGREE or thing[-1][2] != 1:
         return False
-    numbers = list_of(thing)
-    return split_list(prime, numbers) == [(numbers, 1)]
+    return is_prime_list(prime, list_of(thing))
 
 
 def check_modulus(prime, modulus):

@@ -2,7 +2,7 @@
 
 from rowsfilled.checks import MOST_DEGREE, check_prime, check_x_poly
 from rowsfilled.errors import BadPoly, TooMany
-from rowsfilled.splitting import split_list
+from rowsfilled.splitting import is_prime_list, split_list
 from rowsfilled.terms import high_of
 from rowsfilled.xlists import inverse_number, list_common_told, list_divided, list_of, list_scaled, x_poly_of
 
@@ -45,8 +45,7 @@ def is_prime_poly(prime, poly):
     check_degree(poly)
     if high_of(poly, 0) < 1 or poly[-1][2] != 1:
         return False
-    numbers = list_of(poly)
-    return split_list(prime, numbers) == [(numbers, 1)]
+    return is_prime_list(prime, list_of(poly))
 
 
 def factors(prime, poly):

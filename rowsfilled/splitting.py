@@ -91,3 +91,26 @@ def split_list(prime, numbers):
     for part, often in simple_parts(prime, numbers):
         found.extend([(root, often) for root in prime_parts(prime, part)])
     return found
+
+
+def is_prime_list(prime, numbers):
+    return split_list(prime, numbers) == [(numbers, 1)]
+
+
+def counted_on(prime, numbers):
+    """The monic list behind this one: they are counted up, the first number fastest."""
+    found = list(numbers)
+    for k in range(len(numbers) - 1):
+        if found[k] < prime - 1:
+            found[k] += 1
+            return found
+        found[k] = 0
+    return found[:-1] + [0, 1]
+
+
+def next_prime(prime, numbers):
+    """The first prime list behind a monic list."""
+    found = counted_on(prime, numbers)
+    while not is_prime_list(prime, found):
+        found = counted_on(prime, found)
+    return found

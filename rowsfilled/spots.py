@@ -4,11 +4,11 @@ from rowsfilled.chains import chain_end, end_told
 from rowsfilled.checks import is_poly_of, is_x_poly_of
 from rowsfilled.divisors import factor_of_all
 from rowsfilled.mixings import mixing_over
-from rowsfilled.moduli import list_rest, members, rest_common, rest_divided, rest_monic, y_rest
-from rowsfilled.splitting import split_list
+from rowsfilled.moduli import list_rest, rest_common, rest_divided, rest_monic, y_rest
+from rowsfilled.splitting import next_prime, split_list
 from rowsfilled.terms import ONE, high_of, part_of
 from rowsfilled.turns import is_turn, turned_by
-from rowsfilled.xlists import list_monic, list_of
+from rowsfilled.xlists import list_common_of, list_monic, list_of
 from rowsfilled.ylists import y_list_of, y_plus, y_times
 
 
@@ -40,27 +40,12 @@ def is_zero_there(prime, spot, poly):
     return is_in(prime, q, h, turned_by(prime, poly, turn))
 
 
-def is_prime_list(prime, numbers):
-    return split_list(prime, numbers) == [(numbers, 1)]
-
-
-def prime_of_degree(prime, degree, numbers):
-    """The first prime list of this degree that does not divide the list, None if there is none."""
-    power = [0] * degree + [1]
-    for held in members(prime, power):
-        q = held + power[len(held):]
-        if list_rest(prime, q, numbers) and is_prime_list(prime, q):
-            return q
-    return None
-
-
 def prime_apart(prime, numbers):
     """The first prime list that does not divide the list, which is not []."""
-    degree, found = 0, None
-    while found is None:
-        degree += 1
-        found = prime_of_degree(prime, degree, numbers)
-    return found
+    q = [0, 1]
+    while not list_rest(prime, q, numbers):
+        q = next_prime(prime, q)
+    return q
 
 
 def primes_in(prime, numbers):
@@ -86,9 +71,10 @@ def resultant_of(prime, one, other):
 
 def x_list_in(prime, several):
     """A list in x, not [], that is a sum of multiples of lists in y without a common factor with y."""
+    without_y = [rows[0] for rows in several if len(rows) == 1]
+    if without_y:
+        return list_common_of(prime, without_y)
     lists = sorted(several, key=len)
-    if len(lists[0]) == 1:
-        return lists[0][0]
     mixed = lists[1]
     for share, rows in zip(mixing_over(prime, [], lists), lists[2:]):
         mixed = y_plus(prime, mixed, y_times(prime, share, rows))

@@ -1,7 +1,7 @@
 """Polys as lists in y: at the index k stands the list (xlists.py) of the part for y to the k, the last one not []."""
 
 from rowsfilled.terms import high_of
-from rowsfilled.xlists import list_common, list_common_of, list_divided, list_less, list_plus, list_times
+from rowsfilled.xlists import list_common_of, list_divided, list_less, list_plus, list_times
 
 
 def y_list_of(poly):
@@ -35,7 +35,8 @@ def y_plus(prime, one, other):
 def y_less(prime, one, other):
     rows = one + [[] for _ in range(len(other) - len(one))]
     for k, numbers in enumerate(other):
-        rows[k] = list_less(prime, rows[k], numbers)
+        if numbers:
+            rows[k] = list_less(prime, rows[k], numbers)
     return y_trimmed(rows)
 
 
@@ -70,28 +71,6 @@ def content(prime, rows):
 def primitive(prime, rows):
     """The list in y divided by its content, [] for []."""
     return y_shared(prime, rows, content(prime, rows))
-
-
-def pseudo_rest(prime, one, other):
-    """What one, times some list in x, leaves by other: one of fewer parts."""
-    rest = one
-    while len(rest) >= len(other):
-        shared = list_common(prime, rest[-1], other[-1])
-        raising = list_divided(prime, other[-1], shared)[0]
-        taking = list_divided(prime, rest[-1], shared)[0]
-        taken = [[] for _ in range(len(rest) - len(other))] + y_scaled(prime, taking, other)
-        rest = y_less(prime, y_scaled(prime, raising, rest), taken)
-    return rest
-
-
-def y_common(prime, one, other):
-    """The greatest common factor over the quotients of lists in x, divided by its content; [] for two empty lists."""
-    one, other = primitive(prime, one), primitive(prime, other)
-    if len(one) < len(other):
-        one, other = other, one
-    while other:
-        one, other = other, primitive(prime, pseudo_rest(prime, one, other))
-    return one
 
 
 def x_quotient(prime, rows, numbers):

@@ -6,7 +6,7 @@ import unittest
 
 from rowsfilled.coming import coming, is_coming, mixing_for
 from rowsfilled.commons import common_factor
-from rowsfilled.errors import BadModulus, BadPrime, BadRow, NotPlain, TooMany
+from rowsfilled.errors import BadModulus, BadPrime, BadRow, FillError, NotPlain, TooMany
 from rowsfilled.fields import common_at
 from rowsfilled.moving import is_telling, mixed_entry
 from rowsfilled.ones import ones
@@ -102,6 +102,25 @@ class MixingForTest(JudgingCase):
             for modulus in ((), X, ((0, 0, 1), (1, 0, 1), (2, 0, 1))):
                 self.check(2, (first,) + several, modulus)
                 self.check(2, (first,) + several[:2], modulus)
+
+    def test_where_no_low_share_will_do(self):
+        # Modulo x, y times 0, 1, y and y + 1 is what the second entry leaves by the four factors of the first one.
+        places = [Y, ((0, 0, 1), (0, 1, 1)), ((0, 0, 1), (0, 1, 1), (0, 2, 1)), ((0, 0, 1), (0, 1, 1), (0, 3, 1))]
+        shares = [(), ONE, Y, ((0, 0, 1), (0, 1, 1))]
+        first = product(2, *places)
+        seconds = []
+        for number in range(2 ** 7):
+            second = tuple((0, k, 1) for k in range(7) if number >> k & 1)
+            sums = [summed(2, second, share) for share in shares]
+            if all(common_at(2, X, one, place)[0] == place for one, place in zip(sums, places)):
+                seconds.append(second)
+        self.assertEqual(len(seconds), 1)
+        for modulus in ((), X, ((0, 0, 1), (1, 0, 1)), ((0, 0, 1), (1, 0, 1), (2, 0, 1))):
+            self.assertTrue(self.check(2, (first, seconds[0], ONE), modulus))
+            self.assertTrue(self.check(2, (first, seconds[0], (), ONE), modulus))
+            self.assertTrue(self.check(2, (first, (), seconds[0], ONE), modulus))
+            self.assertTrue(self.check(2, (first, seconds[0], ((0, 0, 1), (1, 0, 1)), Y), X))
+            self.assertFalse(self.check(2, (first, seconds[0], ((1, 0, 1),), Y), X))
 
     def test_with_many_factors(self):
         # As many factors over the field as the power of y tells, with x in them, too.
@@ -276,6 +295,7 @@ class IsComingTest(JudgingCase):
             ([held, (((),), (Y, ONE, ()))], (ONE, ())), ([held, held], (Y, ((0, 0, 1), (0, 1, 1)))),
             ([nested("tuple", 77)], (ONE,)), ([(mixing, nested("list", 77))], (ONE,)), (nested("list", 79), (ONE,)),
             ([held], nested("tuple", 79)), ([held], (nested("dict", 78),)), ({}, (ONE,)), ("", ()), ("x", (ONE,)),
+            (None, (ONE,)), (1, (ONE,)), (True, ()), (None, ()), (FillError("held"), (ONE,)),
         ]
         wrong += [([held], (value,)) for value in no_x_polys(2)]
         wrong += [([((value,), telling)], (ONE,)) for value in no_polys(2)]

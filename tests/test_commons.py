@@ -5,9 +5,10 @@ import unittest
 
 from rowsfilled.commons import common_factor, quotient
 from rowsfilled.errors import BadPoly, BadPrime
+from rowsfilled.fields import common_at
 from tests.judging import JudgingCase
 from tests.reference import product, scaled, summed
-from tests.samples import NO_PRIMES, ONE, PRIMES, X, Y, drawn_poly, no_polys, some_polys
+from tests.samples import NO_PRIMES, ONE, PRIMES, X, Y, drawn_poly, no_polys, prime_polys, some_polys
 
 # Their products in both letters have no common factors but those they are given.
 APART = [((0, 1, 1), (1, 0, 1)), ((0, 0, 1), (1, 1, 1)), ((0, 2, 1), (1, 0, 1)), ((0, 1, 1), (3, 0, 1)), X, Y]
@@ -116,6 +117,65 @@ class CommonFactorTest(JudgingCase):
                 one, other = ((0, prime, 1), (prime, 0, 1)), ((0, 1, 1), (1, 0, 1))
                 self.assert_same(self.check(prime, one, other), other)
 
+    def apart(self, prime, source, most_power):
+        """Two polys of many parts, plain and without a common factor with y, so without any."""
+        modulus = prime_polys(prime, 5, 1)[0]
+        while True:
+            low = [drawn_poly(source, prime, most_power, 12) for _ in range(2)]
+            tops = [((0, most_power + k, prime - 1),) for k in (1, 2)]
+            one, other = [summed(prime, poly, top) for poly, top in zip(low, tops)]
+            if common_at(prime, modulus, one, other)[0] == ONE:
+                return one, other
+
+    def test_many_parts(self):
+        for prime in PRIMES:
+            source = random.Random(prime + 1)
+            for most_power in (4, 5, 6, 9):
+                one, other = self.apart(prime, source, most_power)
+                self.assert_same(self.check(prime, one, other), ONE)
+                for size, terms in ((1, 3), (3, 4), (6, 20), (9, 30), (20, 9)):
+                    g = drawn_poly(source, prime, size, terms) or X
+                    found = self.check(prime, product(prime, g, one), product(prime, g, other))
+                    self.assert_same(found, with_one(prime, g))
+                    times = ((0, 1, 1), (2, 0, 1))
+                    found = self.check(prime, product(prime, g, g, one), product(prime, g, other, times))
+                    rest = common_factor(prime, product(prime, g, one), product(prime, other, times))
+                    self.assert_same(found, with_one(prime, product(prime, g, rest)))
+
+    def test_prime_polys_in_the_highest_parts(self):
+        for prime in PRIMES:
+            lots = [prime_polys(prime, 5, 3), prime_polys(prime, 5, 2) + prime_polys(prime, 6, 2)]
+            for lot in lots:
+                all_of_them = product(prime, *lot)
+                source = random.Random(prime + 2)
+                one, other = self.apart(prime, source, 7)
+                top = product(prime, all_of_them, ((0, 3, 1),))
+                g = summed(prime, top, ((0, 1, 1), (2, 0, 1)))
+                found = self.check(prime, product(prime, g, one), product(prime, g, other))
+                self.assert_same(found, with_one(prime, g))
+                # The highest parts alone have these prime polys in common, or they divide one of them.
+                first = summed(prime, one, product(prime, all_of_them, ((0, 11, 1),)))
+                second = summed(prime, other, product(prime, all_of_them, ((0, 12, 1),)))
+                for pair in ((first, second), (first, other), (one, second)):
+                    rest = self.check(prime, *pair)
+                    found = self.check(prime, product(prime, g, pair[0]), product(prime, g, pair[1]))
+                    self.assert_same(found, with_one(prime, product(prime, g, rest)))
+
+    def test_factors_modulo_prime_polys_alone(self):
+        # Both are alike modulo some prime polys, which divide no highest part.
+        for prime in PRIMES:
+            lot = prime_polys(prime, 5, 2)
+            source = random.Random(prime + 3)
+            one, _ = self.apart(prime, source, 7)
+            other = summed(prime, one, product(prime, *lot))
+            self.assert_same(self.check(prime, one, other), ONE)
+            other = summed(prime, one, product(prime, *lot, ((0, 3, 1), (1, 0, 1))))
+            shared = self.check(prime, one, ((0, 3, 1), (1, 0, 1)))
+            self.assert_same(self.check(prime, one, other), shared)
+            g = ((0, 0, 1), (0, 2, 1), (3, 1, 1))
+            self.assert_same(self.check(prime, product(prime, g, one), product(prime, g, other)),
+                             with_one(prime, product(prime, g, shared)))
+
     def test_high_powers(self):
         self.assert_same(self.check(5, ((999, 999, 2),), ((100, 700, 1),)), ((100, 700, 1),))
         self.assert_same(self.check(5, ((0, 0, 4), (999, 0, 1)), ((0, 0, 4), (6, 0, 1))), ((0, 0, 4), (3, 0, 1)))
@@ -123,6 +183,10 @@ class CommonFactorTest(JudgingCase):
         self.assert_same(common_factor(5, ((0, 999, 4), (999, 0, 1)), ((0, 3, 4), (3, 0, 1))), ((0, 3, 1), (3, 0, 4)))
         self.assert_same(self.check(5, ((0, 999, 1), (1, 0, 1)), ((0, 998, 1), (2, 0, 1))), ONE)
         self.assert_same(self.check(5, ((1, 0, 1), (1, 999, 1)), ((1, 998, 1), (2, 0, 1))), X)
+        one, other = ((0, 50, 1), (3, 4, 1), (60, 0, 1)), ((0, 0, 1), (0, 40, 1), (4, 7, 2), (55, 0, 1))
+        self.assert_same(self.check(5, one, other), ONE)
+        one, other = product(5, one, other), product(5, one, ((0, 0, 1), (7, 9, 3)))
+        self.assert_same(self.check(5, one, other), with_one(5, ((0, 50, 1), (3, 4, 1), (60, 0, 1))))
 
     def test_judged(self):
         for prime in PRIMES:
