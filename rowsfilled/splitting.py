@@ -93,8 +93,23 @@ def split_list(prime, numbers):
     return found
 
 
+def has_root(prime, numbers):
+    """Whether the list is 0 with some number put for x."""
+    for place in range(prime):
+        value = 0
+        for c in reversed(numbers):
+            value = (value * place + c) % prime
+        if value == 0:
+            return True
+    return False
+
+
 def is_prime_list(prime, numbers):
-    return split_list(prime, numbers) == [(numbers, 1)]
+    if len(numbers) == 2:
+        return True
+    if has_root(prime, numbers) or list_common(prime, numbers, list_slope(prime, numbers)) != [1]:
+        return False
+    return len(null_mixes(prime, moves_of_powers(prime, numbers))) == 1
 
 
 def counted_on(prime, numbers):

@@ -130,10 +130,10 @@ class CommonFactorTest(JudgingCase):
     def test_many_parts(self):
         for prime in PRIMES:
             source = random.Random(prime + 1)
-            for most_power in (4, 5, 6, 9):
+            for most_power in (5, 6, 9):
                 one, other = self.apart(prime, source, most_power)
                 self.assert_same(self.check(prime, one, other), ONE)
-                for size, terms in ((1, 3), (3, 4), (6, 20), (9, 30), (20, 9)):
+                for size, terms in ((1, 3), (6, 20), (20, 9)):
                     g = drawn_poly(source, prime, size, terms) or X
                     found = self.check(prime, product(prime, g, one), product(prime, g, other))
                     self.assert_same(found, with_one(prime, g))
@@ -169,6 +169,10 @@ class CommonFactorTest(JudgingCase):
             one, _ = self.apart(prime, source, 7)
             other = summed(prime, one, product(prime, *lot))
             self.assert_same(self.check(prime, one, other), ONE)
+            # The images of two prime polys tell the whole of this one, which does not divide the other one.
+            low = ((0, 0, 1), (0, 7, 1), (2, 2, 1), (3, 1, 1))
+            for more in (ONE, ((0, 9, 1), (1, 1, 1))):
+                self.assert_same(self.check(prime, low, summed(prime, low, product(prime, *lot, more))), ONE)
             other = summed(prime, one, product(prime, *lot, ((0, 3, 1), (1, 0, 1))))
             shared = self.check(prime, one, ((0, 3, 1), (1, 0, 1)))
             self.assert_same(self.check(prime, one, other), shared)
