@@ -100,7 +100,7 @@ class Growth:
         telling = {key: c * inverse % self.prime for key, c in telling.items()}
         held = Held(lead, column, telling, reach)
         stair = []
-        for other in self.stairs[lead[2]]:
+        for other in list(self.stairs[lead[2]]):
             if is_below(other.lead, lead):
                 self.wait(other.column, other.telling, other.reach)
             else:
