@@ -5,6 +5,7 @@ from rowsfilled.errors import BadPoly, BadPrime, TooMany
 MOST_POWER = 999
 MOST_DEGREE = 12
 MOST_SMALL = 3
+MOST_SUM = 2
 
 
 def is_number(thing):

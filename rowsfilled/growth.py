@@ -1,22 +1,25 @@
 """Sums of multiples of columns of polys: Buchberger's way, each step of it told.
 
-A column is a dict from keys (i + j, i, at) to numbers from 1 to prime - 1: the number stands in its entry at the
-index at, with x to the i times y to the j. The lead of a column is its greatest key.
+A column is a dict from keys (i + weight * j, i, at) to numbers from 1 to prime - 1: the number stands in its entry at
+the index at, with x to the i times y to the j. The lead of a column is its greatest key. The weight is 1 throughout,
+or so great that powers of y count before all powers of x.
 """
 
 from rowsfilled.xlists import inverse_number
 
+Y_FIRST = 10000
 
-def column_of(polys):
+
+def column_of(polys, weight=1):
     """The column whose entries are these polys."""
-    return {(i + j, i, at): c for at, poly in enumerate(polys) for i, j, c in poly}
+    return {(i + weight * j, i, at): c for at, poly in enumerate(polys) for i, j, c in poly}
 
 
-def entries_of(column, size):
+def entries_of(column, size, weight=1):
     """The tuple of so many polys whose column this is."""
     terms = [[] for _ in range(size)]
     for (total, i, at), c in column.items():
-        terms[at].append((i, total - i, c))
+        terms[at].append((i, (total - i) // weight, c))
     return tuple([tuple(sorted(held)) for held in terms])
 
 
@@ -129,11 +132,11 @@ class Growth:
         return {key: self.prime - c for key, c in telling.items()}
 
 
-def grown(prime, columns, size, is_told):
+def grown(prime, columns, size, is_told, weight=1):
     """The growth of the columns of tuples of polys, each of this size; it can tell multiples if is_told."""
     growth = Growth(prime, size)
     for at, polys in enumerate(columns):
-        column = column_of(polys)
+        column = column_of(polys, weight)
         if column:
             growth.wait(column, {(0, 0, at): 1} if is_told else {}, max(column)[0])
     growth.grow()
@@ -146,6 +149,13 @@ def multiples_of(prime, columns, size):
     if not growth.is_whole():
         return None
     return [entries_of(growth.told(at), len(columns)) for at in range(size)]
+
+
+def left_in_x(prime, poly, others):
+    """The pair (rest, shares): poly, plus each share times its other poly, is a rest of the least power of y."""
+    growth = grown(prime, [(other,) for other in others], 1, True, Y_FIRST)
+    left, telling, _ = growth.lowered(column_of((poly,), Y_FIRST), {}, 0)
+    return entries_of(left, 1, Y_FIRST)[0], entries_of(telling, len(others), Y_FIRST)
 
 
 def unlike_size(prime, polys):

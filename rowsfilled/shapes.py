@@ -1,7 +1,7 @@
 """Judges rows, tables and grids of polys."""
 
-from rowsfilled.checks import MOST_SMALL, is_poly_of
-from rowsfilled.errors import BadGrid, BadRow, BadTable, TooMany
+from rowsfilled.checks import MOST_SMALL, MOST_SUM, is_poly_of
+from rowsfilled.errors import BadGrid, BadRow, BadStrip, BadTable, TooMany
 from rowsfilled.terms import high_of
 
 SIZES = (2, 3, 4)
@@ -29,6 +29,11 @@ def is_grid_of(prime, thing):
     return any([is_rows_of(prime, thing, len(thing), size) for size in SIZES if 1 <= len(thing) <= size])
 
 
+def is_strip_of(prime, thing):
+    """Whether any value is a strip."""
+    return any([is_rows_of(prime, thing, size - 1, size) for size in (3, 4)])
+
+
 def check_row(prime, row):
     if not any([is_row_of(prime, row, size) for size in SIZES]):
         raise BadRow("no tuple of two to four polys of this prime")
@@ -37,6 +42,16 @@ def check_row(prime, row):
 def check_small(row):
     if any([max(high_of(poly, 0), high_of(poly, 1)) > MOST_SMALL for poly in row]):
         raise TooMany(MOST_SMALL)
+
+
+def check_row_of(prime, row, size):
+    if not is_row_of(prime, row, size):
+        raise BadRow("no tuple of so many polys of this prime")
+
+
+def check_low(row):
+    if any([i + j > MOST_SUM for poly in row for i, j, _ in poly]):
+        raise TooMany(MOST_SUM)
 
 
 def check_table(prime, table):
@@ -53,3 +68,8 @@ def check_table_of(prime, table, size):
 def check_grid(prime, grid):
     if not is_grid_of(prime, grid):
         raise BadGrid("no tuple of rows of two to four polys of this prime, of no more rows than entries")
+
+
+def check_strip(prime, strip):
+    if not is_strip_of(prime, strip):
+        raise BadStrip("no tuple of two rows of three, or three rows of four polys of this prime")

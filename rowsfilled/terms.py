@@ -55,6 +55,11 @@ def lead_of(poly):
     return max(poly, key=lambda term: (term[0] + term[1], term[0]))
 
 
+def has_no_letter(poly):
+    """Whether the poly is a number among the polys."""
+    return poly == () or poly[-1][:2] == (0, 0)
+
+
 def exchanged(poly):
     """The poly with x and y exchanged."""
     return tuple(sorted([(j, i, c) for i, j, c in poly]))

@@ -126,3 +126,17 @@ def small_field(prime, degree_of_modulus):
     for power in range(degree_of_modulus - 1, -1, -1):
         found = [tuple([(power, 0, c)] * (c > 0)) + held for held in found for c in range(prime)]
     return found
+
+
+def diagonal(size, rank):
+    """The table with one at the first so many places of the diagonal."""
+    return tuple(tuple(((0, 0, 1),) if i == j and i < rank else () for j in range(size)) for i in range(size))
+
+
+def unit_slowly(size):
+    return diagonal(size, size)
+
+
+def product_of_tables(prime, table, other):
+    columns = list(zip(*other))
+    return tuple(tuple(summed_products(prime, row, column) for column in columns) for row in table)

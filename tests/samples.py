@@ -3,6 +3,7 @@
 import random
 
 from rowsfilled.errors import BadText, FillError, TooMany
+from tests.reference import product, summed
 
 PRIMES = (2, 3, 5, 7)
 ONE = ((0, 0, 1),)
@@ -188,3 +189,61 @@ def no_grids(prime):
 
 def drawn_grid(source, prime, many, size, most_power=2, most_terms=3):
     return tuple(drawn_row(source, prime, size, most_power, most_terms) for _ in range(many))
+
+
+LOW_POWERS = [(i, j) for i in range(3) for j in range(3 - i)]
+
+
+def drawn_low_row(source, prime, size, most_terms=6):
+    """A row without terms of i + j above 2; numbers and () stand in it now and then."""
+    row = []
+    for _ in range(size):
+        powers = source.sample(LOW_POWERS, source.randint(0, most_terms))
+        row.append(tuple((i, j, source.randint(1, prime - 1)) for i, j in sorted(powers)))
+    return tuple(row)
+
+
+def low_rows_to_one(source, prime, size, many):
+    """Drawn low rows that come to 1, some of them the first rows of tables made by steps."""
+    from rowsfilled.ones import ones
+    found = []
+    while len(found) < many:
+        row = drawn_low_row(source, prime, size, source.choice((2, 3, 6)))
+        if source.random() < 0.3:
+            row = led_table(source, prime, size, 3)[0]
+        if all(i + j <= 2 for poly in row for i, j, _ in poly) and ones(prime, row) is not None:
+            found.append(row)
+    return found
+
+
+def led_table(source, prime, size, steps=4, most_power=1, most_terms=2):
+    """A table of determinant one: the unit table with multiples of rows added to others."""
+    table = [[ONE if i == j else () for j in range(size)] for i in range(size)]
+    for _ in range(steps):
+        one, other = source.sample(range(size), 2)
+        more = drawn_poly(source, prime, most_power, most_terms)
+        table[other] = [summed(prime, held, product(prime, more, poly)) for held, poly in zip(table[other], table[one])]
+    return tuple(tuple(row) for row in table)
+
+
+def no_strips(prime, shapes=((2, 3), (3, 4))):
+    """Values that are no strips of these shapes (rows, entries)."""
+    found = list(STRANGE) + [(), [], {}, ((),), ((), ()), ((ONE,),), (ONE, X), (X, Y, ONE), ONE]
+    for many in range(1, 6):
+        for size in range(6):
+            row = (ONE, X, Y, (), ONE)[:size]
+            strip = (row,) * many
+            found += [list(strip), tuple([list(row)] * many), dict(enumerate(strip))]
+            if (many, size) not in shapes:
+                found.append(strip)
+    for many, size in shapes:
+        row = (X, ONE, (), Y)[:size]
+        no_rows_here = [row[:-1], row + (X,), list(row), (), None, True, "x", dict(enumerate(row)), nested("tuple", 79)]
+        for bad_row in no_rows_here:
+            for at in range(many):
+                found.append((row,) * at + (bad_row,) + (row,) * (many - at - 1))
+        deep = [nested(kind, 78) for kind in ("tuple", "list", "dict")]
+        for bad in no_polys(prime)[::11] + [True, [], None] + deep:
+            found.append((row,) * (many - 1) + (row[:-1] + (bad,),))
+            found.append(((bad,) + row[1:],) + (row,) * (many - 1))
+    return found

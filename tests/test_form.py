@@ -52,6 +52,22 @@ INTERFACE = {
     "coming": {
         "mixing_for": "prime row modulus", "is_coming": "prime row thing", "coming": "prime row",
     },
+    "filling": {
+        "places_of": "prime row brought", "moves_of": "prime row brought", "filled": "prime row",
+        "is_filled": "prime row thing", "opened": "prime row", "is_opened": "prime row thing",
+    },
+    "solving": {
+        "is_solution": "prime row thing", "basis": "prime row", "is_basis": "prime row thing",
+        "parts_of": "prime row columns column", "led": "prime row other", "is_led": "prime row other thing",
+    },
+    "several": {
+        "crossing": "prime strip", "last_row": "prime strip", "is_last_row": "prime strip thing",
+        "solves": "prime strip row", "factor_of": "prime strip row", "goal_met": "prime strip goals",
+    },
+    "kinds": {
+        "led_strip": "prime one other", "is_fold": "prime thing", "rank_of": "prime fold",
+        "straightened": "prime fold", "led_fold": "prime one other",
+    },
 }
 
 BUILTINS = (

@@ -13,8 +13,8 @@ from rowsfilled.zeros import common_spot, is_spot
 from tests.judging import JudgingCase
 from tests.reference import degree, determinant_slowly, high_slowly, product, scaled, summed, summed_products
 from tests.samples import (
-    NO_PRIMES, ONE, PRIMES, STRANGE, X, Y, drawn_grid, drawn_poly, drawn_row, nested, no_grids, no_polys, no_tables,
-    no_x_polys, prime_polys,
+    NO_PRIMES, ONE, PRIMES, STRANGE, X, Y, drawn_grid, drawn_poly, drawn_row, led_table, nested, no_grids, no_polys,
+    no_tables, no_x_polys, prime_polys,
 )
 
 FIRST = ((X, Y, ONE), ((), ONE, X))
@@ -31,12 +31,7 @@ def minors_slowly(prime, grid):
 
 def led_grid(source, prime, many, size, steps=6):
     """A grid whose minors come to 1: the first rows of a table of determinant 1."""
-    table = [list(row) for row in unit(prime, size)]
-    for _ in range(steps):
-        one, other = source.sample(range(size), 2)
-        more = drawn_poly(source, prime, 1, 2)
-        table[other] = [summed(prime, held, product(prime, more, poly)) for held, poly in zip(table[other], table[one])]
-    return tuple(tuple(row) for row in table[:many])
+    return led_table(source, prime, size, steps)[:many]
 
 
 class GridByTest(JudgingCase):

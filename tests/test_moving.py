@@ -13,34 +13,18 @@ from rowsfilled.moving import (
 )
 from rowsfilled.resultants import resultant
 from tests.judging import JudgingCase
-from tests.reference import determinant_slowly, high_slowly, product, put_slowly, scaled, summed, summed_products
-from tests.samples import (
-    NO_PRIMES, ONE, PRIMES, STRANGE, WIDE, X, Y, drawn_grid, drawn_poly, drawn_row, nested, no_polys, no_rows,
-    no_tables, no_x_polys,
+from tests.reference import (
+    determinant_slowly, high_slowly, product, product_of_tables, put_slowly, scaled, summed, summed_products,
+    unit_slowly,
 )
-
-
-def unit_slowly(size):
-    return tuple(tuple(ONE if i == j else () for j in range(size)) for i in range(size))
-
-
-def product_slowly(prime, table, other):
-    columns = list(zip(*other))
-    return tuple(tuple(summed_products(prime, row, column) for column in columns) for row in table)
+from tests.samples import (
+    NO_PRIMES, ONE, PRIMES, STRANGE, WIDE, X, Y, drawn_grid, drawn_poly, drawn_row, led_table, nested, no_polys,
+    no_rows, no_tables, no_x_polys,
+)
 
 
 def less(prime, one, other):
     return summed(prime, one, scaled(prime, -1, other))
-
-
-def led_table(source, prime, size, most_power=1):
-    """A table of determinant one: the unit table with multiples of rows added to others."""
-    table = [list(row) for row in unit_slowly(size)]
-    for _ in range(4):
-        one, other = source.sample(range(size), 2)
-        more = drawn_poly(source, prime, most_power, 2)
-        table[other] = [summed(prime, held, product(prime, more, poly)) for held, poly in zip(table[other], table[one])]
-    return tuple(tuple(row) for row in table)
 
 
 class UnitTest(JudgingCase):
@@ -66,12 +50,12 @@ class ProductTest(JudgingCase):
                 for _ in range(12):
                     one, other = drawn_grid(source, prime, size, size), drawn_grid(source, prime, size, size)
                     found = table_product(prime, one, other)
-                    self.assert_same(found, product_slowly(prime, one, other))
+                    self.assert_same(found, product_of_tables(prime, one, other))
                     self.assert_same(table_product(prime, one, unit(prime, size)), one)
                     self.assert_same(table_product(prime, unit(prime, size), one), one)
                     row = drawn_row(source, prime, size)
                     by_one = row_by(prime, row, one)
-                    self.assert_same(by_one, product_slowly(prime, (row,), one)[0])
+                    self.assert_same(by_one, product_of_tables(prime, (row,), one)[0])
                     self.assert_same(row_by(prime, by_one, other), row_by(prime, row, found))
 
     def test_unlike_sizes(self):
@@ -146,8 +130,8 @@ class DeterminantTest(JudgingCase):
                     table = tuple(table)
                     self.assert_same(determinant(prime, table), number)
                     about = inverse(prime, table)
-                    self.assert_same(product_slowly(prime, table, about), unit_slowly(size))
-                    self.assert_same(product_slowly(prime, about, table), unit_slowly(size))
+                    self.assert_same(product_of_tables(prime, table, about), unit_slowly(size))
+                    self.assert_same(product_of_tables(prime, about, table), unit_slowly(size))
                     self.assert_same(inverse(prime, about), table)
 
     def test_not_whole(self):
@@ -423,7 +407,7 @@ class MovedRowTest(JudgingCase):
             (k + 2, 1): scaled(prime, -1, put_slowly(prime, held, X, goal)) for k, held in enumerate(mixing)})
         expected = first
         for table in (second, third, fourth):
-            expected = product_slowly(prime, expected, table)
+            expected = product_of_tables(prime, expected, table)
         found = moved_row(prime, row, mixing, telling, place, goal)
         self.assert_same(found, expected)
         self.assert_same(determinant(prime, found), ONE)
