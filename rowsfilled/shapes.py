@@ -1,7 +1,7 @@
-"""Judges rows, tables and grids of polys."""
+"""Judges rows, tables and grids of polys, and single steps."""
 
-from rowsfilled.checks import MOST_SMALL, MOST_SUM, is_poly_of
-from rowsfilled.errors import BadGrid, BadRow, BadStrip, BadTable, TooMany
+from rowsfilled.checks import MOST_SMALL, MOST_SUM, check_prime, is_number_within, is_poly_of
+from rowsfilled.errors import BadGrid, BadRow, BadSize, BadStrip, BadTable, TooMany
 from rowsfilled.terms import high_of
 
 SIZES = (2, 3, 4)
@@ -73,3 +73,27 @@ def check_grid(prime, grid):
 def check_strip(prime, strip):
     if not is_strip_of(prime, strip):
         raise BadStrip("no tuple of two rows of three, or three rows of four polys of this prime")
+
+
+def check_size(prime, size):
+    check_prime(prime)
+    if not is_number_within(size, 2, 4):
+        raise BadSize("size is no number from 2 to 4")
+
+
+def are_places(size, i, j):
+    """Whether any two values are different indexes below the size."""
+    return is_number_within(i, 0, size - 1) and is_number_within(j, 0, size - 1) and i != j
+
+
+def is_step_of(prime, size, thing):
+    """Whether any value is a step of this size."""
+    if not isinstance(thing, tuple) or len(thing) != 3:
+        return False
+    i, j, poly = thing
+    return are_places(size, i, j) and is_poly_of(prime, poly)
+
+
+def are_steps_of(prime, size, thing):
+    """Whether any value is a list of steps of this size."""
+    return isinstance(thing, (list, tuple)) and all([is_step_of(prime, size, step) for step in thing])

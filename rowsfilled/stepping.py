@@ -3,6 +3,7 @@
 A step (i, j, poly) adds poly times the entry i of a row to its entry j.
 """
 
+from rowsfilled.checks import within_powers
 from rowsfilled.growth import multiples_of
 from rowsfilled.tables import unit_table
 from rowsfilled.terms import ONE, add_product, add_scaled, added, gathered, lessened
@@ -44,6 +45,10 @@ def steps_short(prime, steps):
         if poly != ():
             found.append((i, j, poly))
     return found
+
+
+def steps_within(steps):
+    return [(i, j, within_powers(poly)) for i, j, poly in steps]
 
 
 def lowering_of(prime, row, lead):

@@ -140,3 +140,13 @@ def unit_slowly(size):
 def product_of_tables(prime, table, other):
     columns = list(zip(*other))
     return tuple(tuple(summed_products(prime, row, column) for column in columns) for row in table)
+
+
+def form_table_slowly(prime, form):
+    """The product that point 61 writes."""
+    c, several = form
+    inverse = [d for d in range(1, prime) if c * d % prime == 1][0]
+    table = ((((0, 0, c),), ()), ((), ((0, 0, inverse),)))
+    for poly in several:
+        table = product_of_tables(prime, table, ((poly, ((0, 0, 1),)), (((0, 0, prime - 1),), ())))
+    return table

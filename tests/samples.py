@@ -247,3 +247,67 @@ def no_strips(prime, shapes=((2, 3), (3, 4))):
             found.append((row,) * (many - 1) + (row[:-1] + (bad,),))
             found.append(((bad,) + row[1:],) + (row,) * (many - 1))
     return found
+
+
+NO_SIZES = STRANGE + [0, 1, 5, 6, -2, "3", (2,), [2], {2: 2}, b"2", WIDE]
+
+
+def no_step(prime, size):
+    """Values that are no steps of this size."""
+    found = list(STRANGE) + [(), [], {}, (0, 1), (0, 1, ONE, ONE), [0, 1, ONE], {0: 0, 1: 1, 2: ONE}, ((0, 1), ONE)]
+    found += [(k, k, X) for k in range(size)] + [(0, size, X), (size, 0, X), (size, size + 1, X), (-1, 0, X)]
+    found += [(0, -1, X), (0, WIDE, X), "01x"]
+    found += [(0, True, X), (True, 0, X), (False, 1, X), (1, False, X), ("0", 1, X), (0, None, X), (0, (1,), X)]
+    found += [(0, 1, value) for value in no_polys(prime)]
+    return found
+
+
+def no_step_lists(prime, size):
+    """Values that are no lists of steps of this size."""
+    wrong = no_step(prime, size)
+    found = [value for value in STRANGE if value != ()] + [{}, {0: (0, 1, X)}, (0, 1, X), [0, 1, X], [[0, 1, X]]]
+    found += [[value] for value in wrong[::5]] + [((0, 1, X), value) for value in wrong[::7]]
+    return found + [nested("list", 80), [nested("tuple", 79)], [(0, 1, nested("tuple", 78))]]
+
+
+def drawn_steps(source, prime, size, many, most_power=2, most_terms=2, letters=2):
+    found = []
+    for _ in range(many):
+        i, j = source.sample(range(size), 2)
+        poly = drawn_poly(source, prime, most_power, most_terms)
+        if letters == 1:
+            poly = tuple(sorted({i: (i, 0, c) for i, _, c in poly}.values()))
+        found.append((i, j, poly))
+    return found
+
+
+def is_number_poly(poly):
+    return all(term[:2] == (0, 0) for term in poly)
+
+
+def drawn_form(source, prime, many, letters, most_power=2, most_terms=3):
+    """A form of so many polys; the first and the last one are numbers now and then, two are not both ()."""
+    several = []
+    while len(several) < many:
+        poly = drawn_poly(source, prime, source.choice((0, most_power)), most_terms)
+        if letters == 1:
+            poly = tuple(sorted({i: (i, 0, c) for i, _, c in poly}.values()))
+        if len(several) in (0, many - 1) or not is_number_poly(poly):
+            several.append(poly)
+    if several == [(), ()]:
+        several = [ONE, ()]
+    return source.randint(1, prime - 1), tuple(several)
+
+
+def no_forms(prime, letters):
+    """Values that are no forms in one letter, or in two."""
+    number = ((0, 0, prime - 1),)
+    found = list(STRANGE) + [(), [], {}, (1,), (1, (X,), ()), [1, (X,)], (1, [X]), (1, {0: X}), {0: 1, 1: (X,)}]
+    found += [(c, (X,)) for c in [0, prime, -1, prime + 1, WIDE, True, False, None, "1", (1,), ONE, [1]]]
+    found += [(1, ((), ())), (1, (X, (), X)), (1, (X, ONE, X)), (1, ((), number, ())), (1, (X, X, ONE, X)),
+              (1, (X, ONE, X, X)), (1, ((), (), ())), (1, (X, (), X, X)), (1, None), (1, "x"), (1, 1), (1, X), (1, ONE)]
+    found += [(1, (value,)) for value in no_polys(prime)] + [(1, (X, X, value)) for value in no_polys(prime)[::5]]
+    found += [(1, (X, value, X)) for value in no_polys(prime)[::5]] + [(1, nested("tuple", 79))]
+    if letters == 1:
+        found += [(1, (Y,)), (1, (X, Y)), (1, (X, Y, X)), (1, (X, ((1, 1, 1),), X)), (1, (((0, 0, 1), (0, 1, 1)), X))]
+    return found

@@ -68,6 +68,24 @@ INTERFACE = {
         "led_strip": "prime one other", "is_fold": "prime thing", "rank_of": "prime fold",
         "straightened": "prime fold", "led_fold": "prime one other",
     },
+    "steps": {
+        "step_table": "prime size step", "steps_table": "prime size steps", "steps_undone": "prime size steps",
+        "steps_turned": "prime size steps", "steps_joined": "prime size steps", "crossed": "prime size one other",
+        "exchanging": "prime size i j", "scaling": "prime size i j number",
+    },
+    "oneletter": {
+        "x_steps": "prime size table", "is_steps_of": "prime size table thing", "x_row_steps": "prime row",
+        "form_table": "prime form", "x_form": "prime table", "is_form": "prime thing",
+    },
+    "twobytwo": {
+        "lowering": "prime pair", "lowered": "prime pair", "is_stuck": "prime pair", "pair_steps": "prime table",
+        "pair_form_table": "prime form", "is_pair_form": "prime thing", "pair_form": "prime table",
+    },
+    "texts": {
+        "poly_text": "prime poly", "row_text": "prime row", "grid_text": "prime grid", "steps_text": "prime size steps",
+        "read_poly": "prime text", "read_row": "prime text", "read_grid": "prime text",
+        "read_steps": "prime size text",
+    },
 }
 
 BUILTINS = (
@@ -100,6 +118,12 @@ def bound_names(tree):
 
 
 class InterfaceTest(unittest.TestCase):
+
+    def test_all_modules_are_there(self):
+        self.assertEqual(["errors"] + list(INTERFACE), MODULES)
+        for name in MODULES:
+            self.assertTrue((PACKAGE / f"{name}.py").is_file(), name)
+        self.assertEqual(sum(len(functions) for functions in INTERFACE.values()), 102)
 
     def test_functions_stand_where_they_are_listed(self):
         for module, functions in INTERFACE.items():

@@ -12,7 +12,7 @@ from rowsfilled.turns import turned
 from rowsfilled.zeros import common_spot, is_spot, rest_size, zeros_at
 from tests.judging import JudgingCase
 from tests.reference import (
-    at, degree, high_slowly, is_plain_slowly, part_slowly, product, put_slowly, rest_slowly, small_field, summed,
+    degree, high_slowly, is_plain_slowly, part_slowly, product, put_slowly, rest_slowly, small_field, summed,
 )
 from tests.samples import (
     NO_PRIMES, ONE, PRIMES, STRANGE, WIDE, X, Y, drawn_poly, drawn_row, nested, no_moduli, no_polys, no_rows,
