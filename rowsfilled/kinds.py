@@ -71,6 +71,7 @@ def straight_columns(prime, fold):
     """The column of a fold of rank 1, and columns that make a table of determinant 1 with it and are led to ()."""
     column, row = column_and_row(prime, fold)
     if len(fold) == 2:
+        # Of any powers: nothing has to be searched for.
         return [column, (lessened(prime, (), row[1]), row[0])]
     opened, _ = opening_tables(prime, row)
     # The row adds up to one with the column as with the first column of the opened table: the determinant stays.

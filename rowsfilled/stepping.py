@@ -108,16 +108,17 @@ def steps_to_one(prime, row, lead):
 
 
 def steps_of_table(prime, table, lead):
-    """Steps whose product a table of determinant 1 is; None if its first row is not led to one."""
+    """Steps whose product a table of determinant 1 is; None if its first row is not led to one.
+
+    A table of more than two rows is one of polys in x: their rows are always led to one.
+    """
     if len(table) == 1:
         return []
     steps = steps_to_one(prime, table[0], lead)
     if steps is None:
         return None
     rows = [row_by_steps(prime, row, steps) for row in table[1:]]
-    below = steps_of_table(prime, [row[1:] for row in rows], lead)
-    if below is None:
-        return None
     first = [(k + 1, 0, row[0]) for k, row in enumerate(rows)]
+    below = steps_of_table(prime, [row[1:] for row in rows], lead)
     shifted = [(i + 1, j + 1, poly) for i, j, poly in below]
     return steps_short(prime, first + shifted + steps_back(prime, steps))

@@ -22,10 +22,6 @@ def poly_worded(poly):
     return JOINT.join([term_worded(term) for term in reversed(poly)]) if poly else "0"
 
 
-def is_figures(text):
-    return text != "" and all([sign in FIGURES for sign in text])
-
-
 def least_power(text):
     """The least power whose text, behind its letter, begins with this one; None if there is none."""
     if text == "":
@@ -33,7 +29,9 @@ def least_power(text):
     if text == "^":
         return 2
     figures = text[1:]
-    if text[0] != "^" or not is_figures(figures) or figures[0] == "0" or len(figures) > len(str(MOST_POWER)):
+    if text[0] != "^" or not all([sign in FIGURES for sign in figures]):
+        return None
+    if figures[0] == "0" or len(figures) > len(str(MOST_POWER)):
         return None
     return int(figures) if figures != "1" else 10
 
@@ -52,8 +50,8 @@ def least_powers(text):
 
 
 def least_term(prime, text):
-    """The least term (i, j, c) whose text begins with this one, None if there is none."""
-    if text == "" or text[0] not in FIGURES:
+    """The least term (i, j, c) whose text begins with this one, which is not empty; None if there is none."""
+    if text[0] not in FIGURES:
         powers = least_powers(text)
         return None if powers is None else (powers[0], powers[1], 1)
     c = int(text[0])

@@ -86,6 +86,12 @@ class LedStripTest(JudgingCase):
                 mixed = tuple(zip(*source.sample(list(zip(*strips[2])), size)))
                 self.check(prime, strips[2], mixed)
 
+    def test_limit(self):
+        # The first row of each such table is that of other, less x ** 600 times its second one.
+        one = ((ONE, ((600, 0, 1),), ()), ((), ONE, ()))
+        self.assert_too_many(999, led_strip, 2, one, ((ONE, (), ()), (((600, 0, 1),), ONE, ())))
+        self.check(2, one, ((ONE, (), ()), (((399, 0, 1),), ONE, ())))
+
     def test_errors_in_sequence(self):
         for prime in PRIMES:
             for other in (None, FIRST, LOST, FOUR, nested("list", 80)):
@@ -307,6 +313,13 @@ class LedFoldTest(JudgingCase):
                 for other_rank, other in lots:
                     if len(one) == len(other):
                         self.assertEqual(self.check(prime, one, other), rank == other_rank)
+
+    def test_limit(self):
+        # c + x ** 1200 divided by c stands in each such table.
+        for prime in PRIMES:
+            one, other = ((ONE, ((600, 0, 1),)), ((), ())), ((ONE, ()), (((600, 0, 1),), ()))
+            self.assert_too_many(999, led_fold, prime, one, other)
+            self.assertTrue(self.check(prime, one, ((ONE, ()), (((399, 0, 1),), ()))))
 
     def test_none_is_told_as_none(self):
         for size in (2, 3):

@@ -4,7 +4,7 @@ import itertools
 import random
 import unittest
 
-from rowsfilled.errors import BadForm, BadPrime, BadRow, BadSize, BadTable
+from rowsfilled.errors import BadForm, BadPrime, BadRow, BadSize, BadTable, TooMany
 from rowsfilled.onevar import common
 from rowsfilled.oneletter import form_table, is_form, is_steps_of, x_form, x_row_steps, x_steps
 from rowsfilled.several import last_row
@@ -91,6 +91,27 @@ class XStepsTest(JudgingCase):
         for prime in PRIMES:
             self.check(prime, 2, ((ONE, high), ((), ONE)))
             self.check(prime, 3, ((ONE, (), high), ((), ONE, high), ((), (), ONE)))
+
+    def test_steps_above_the_limit_are_not_told(self):
+        source = random.Random(1)
+        told = [0, 0]
+        for _ in range(12):
+            table = unit_slowly(3)
+            for _ in range(30):
+                i, j = source.sample(range(3), 2)
+                step = (i, j, tuple((k, 0, 1) for k in sorted(source.sample(range(300), 3))))
+                more = product_of_tables(2, table, steps_table(2, 3, [step]))
+                table = more if highest([poly for row in more for poly in row]) <= 999 else table
+            try:
+                steps = x_steps(2, 3, table)
+            except TooMany as error:
+                self.assert_same(error.most, 999)
+                told[0] += 1
+            else:
+                self.assertLessEqual(highest([poly for _, _, poly in steps]), 999)
+                self.assert_same(is_steps_of(2, 3, table, steps), True)
+                told[1] += 1
+        self.assertGreater(told[1], 0)
 
     def no_x_tables(self, prime, size):
         found = no_tables(prime, (size,))

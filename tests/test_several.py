@@ -150,6 +150,15 @@ class LastRowTest(JudgingCase):
             self.assertGreater(told, 0)
 
 
+    def test_limit(self):
+        # The crossing is (1 + x ** 300 * y ** 600, x ** 999, 0): what inverts the one modulo the other has y ** 1200.
+        strip = ((((999, 0, 1),), ((0, 0, 1), (300, 600, 1)), ()), ((), (), ONE))
+        self.assert_same(crossing(2, strip), (((0, 0, 1), (300, 600, 1)), ((999, 0, 1),), ()))
+        self.assert_too_many(999, last_row, 2, strip)
+        strip = ((((999, 0, 1),), ((0, 0, 1), (500, 300, 1)), ()), ((), (), ONE))
+        self.assertTrue(self.check(2, strip))
+
+
 class IsLastRowTest(JudgingCase):
 
     def test_values_of_every_kind(self):
@@ -298,6 +307,12 @@ class GoalMetTest(JudgingCase):
                         other = tuple(summed(prime, held, product(prime, X, more)) for held, more in zip(row, found))
                         less = tuple(summed(prime, one, scaled(prime, -1, two)) for one, two in zip(other, row))
                         self.assert_same(factor_of(prime, strip, less), X)
+
+    def test_limit(self):
+        # The second entry is the second goal; times x ** 600 it is taken from the first one.
+        strip = ((ONE, ((600, 0, 1),), ()), ((), ONE, ()))
+        self.assert_too_many(999, goal_met, 2, strip, (X, ((400, 0, 1),)))
+        self.assert_same(goal_met(2, strip, ((), ((399, 0, 1),)))[:2], (((999, 0, 1),), ((399, 0, 1),)))
 
     def test_single_goals(self):
         for prime in PRIMES:

@@ -301,6 +301,7 @@ class StepsTextTest(TextCase):
             ("non", 0),
             ("0 1: x; 1 0: y; 0 1: x; 0 1: z", 3), ("x", 0), ("0", 0), ("0 1: x, y", 0), ("0 1; x", 0), ("; 0 1: x", 0),
             ("0 1: x; 1 0: x + x", 1), ("\u0660 1: x", 0), ("0 \u0661: x", 0), ("x 1: x", 0), ("0\t1: x", 0),
+            ("0 1, x", 0), ("0 1--x", 0), ("0 1:\tx", 0), ("0 1. x", 0), ("0-1: x", 0),
         ]:
             with self.subTest(text=text):
                 self.assert_bad_text(at, read_steps, 7, 2, text)
