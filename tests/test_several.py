@@ -149,7 +149,6 @@ class LastRowTest(JudgingCase):
                         self.assertLess(highest(last_row(prime, strip)), 400)
             self.assertGreater(told, 0)
 
-
     def test_limit(self):
         # The crossing is (1 + x ** 300 * y ** 600, x ** 999, 0): what inverts the one modulo the other has y ** 1200.
         strip = ((((999, 0, 1),), ((0, 0, 1), (300, 600, 1)), ()), ((), (), ONE))
